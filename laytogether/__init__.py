@@ -1,0 +1,1 @@
+"""Laytogether: heaps of goods laid together."""

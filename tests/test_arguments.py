@@ -1,0 +1,185 @@
+"""Point 1: what may be passed, which error is raised, new lists, arguments that stay as they are."""
+
+import copy
+import unittest
+from itertools import combinations
+
+from laytogether import backward, counts, crowds, fixed, lays, tables
+from laytogether.errors import LayError, NotTwo
+from tests.inputs import KINDS, ODD, TOLD
+
+# The kinds of the arguments of each function, by module.
+FUNCTIONS = {
+    tables: {
+        "people": ("table",), "goods": ("table",), "count_at_odds": ("table",), "place": ("table", "row"),
+        "heaps": ("table", "good"), "totals": ("table",), "more_of": ("table", "person", "other person"),
+        "highest_tower": ("table",), "widest_odds": ("table",), "is_over": ("table", "person", "other person"),
+        "is_tower": ("table",), "fits": ("table", "row"), "at_odds": ("table",), "tops": ("table",),
+        "bottoms": ("table",), "free": ("table",), "odds_with": ("table", "person"), "quarrelsome": ("table",),
+        "same_rows": ("table",),
+    },
+    crowds: {
+        "crowd": ("table",), "tower": ("table",), "next_crowds": ("table",), "all_met": ("table",),
+        "come_together": ("table", "table"), "is_deed": ("table", "table"), "can_come": ("table", "table"),
+        "shows_way": ("table", "table", "value"), "count_met": ("table",), "count_ways": ("table", "table"),
+        "count_by_odds": ("table",), "least_deeds": ("table", "table"), "most_deeds": ("table", "table"),
+        "way": ("table", "table"),
+    },
+    lays: {
+        "lay": ("table", "person", "other person"), "lay_all": ("table", "lays"), "in_order": ("table", "order"),
+        "rounds": ("table", "turns"), "changing": ("table", "lays"), "helpers": ("table", "person"),
+        "lays_for": ("table", "order"), "shows_lays": ("table", "order", "value"), "least_lays": ("table", "order"),
+        "count_laid": ("table",), "count_orders_met": ("table",), "lays_to_top": ("table", "person"),
+        "lays_to_bottom": ("table", "person"), "least_rounds": ("table",), "easiest_order": ("table",),
+    },
+    fixed: {
+        "brings_all": ("many", "lays"), "shows_fixed": ("few", "value"), "left_over": ("many", "lays"),
+        "count_left": ("many", "lays"), "count_states": ("many", "lays"), "idle": ("many", "lays"),
+        "plain_lays": ("many",), "fewest_lays": ("few",),
+    },
+    backward: {
+        "splits": ("table", "row", "lower row"), "count_splits": ("table", "row", "lower row"),
+        "count_befores": ("table",), "befores": ("table",), "all_befores": ("table",), "sources": ("table",),
+        "between": ("table", "table"), "meetings": ("table", "table"), "is_source": ("table",),
+        "farthest_before": ("table",),
+    },
+    counts: {
+        name: ("heaps",) for name in (
+            "count_tables", "count_crowds", "count_sources", "count_deeds", "longest_row", "all_tables", "all_crowds",
+            "count_by_odds", "crowds_by_odds", "most_quarrels", "odds_chance", "mean_odds", "top_chance",
+            "tower_chance", "meet_chance",
+        )
+    },
+}
+
+LISTS = {
+    "at_odds", "tops", "bottoms", "free", "odds_with", "same_rows", "next_crowds", "all_met", "left_over", "splits",
+    "befores", "all_befores", "sources", "between", "meetings", "all_tables", "all_crowds",
+}
+TRUTHS = {
+    "is_over", "is_tower", "fits", "come_together", "is_deed", "can_come", "shows_way", "shows_lays", "brings_all",
+    "shows_fixed", "is_source",
+}
+NUMBERS = {
+    "people", "goods", "count_at_odds", "place", "count_met", "count_ways", "least_deeds", "most_deeds", "least_lays",
+    "count_laid", "count_orders_met", "lays_to_top", "lays_to_bottom", "least_rounds", "count_left", "count_states",
+    "count_splits", "count_befores", "count_tables", "count_crowds", "count_sources", "count_deeds", "longest_row",
+}
+
+
+def functions():
+    """Each function with its name and the kinds of its arguments."""
+    return [(name, getattr(module, name), kinds) for module, told in FUNCTIONS.items() for name, kinds in told.items()]
+
+
+def usual(kinds):
+    return [KINDS[kind][0] for kind in kinds]
+
+
+class WrongArguments(unittest.TestCase):
+
+    def check(self, function, given, error, fields):
+        before = copy.deepcopy(given)
+        try:
+            function(*given)
+        except LayError as caught:
+            self.assertIs(type(caught), error, given)
+            self.assertEqual(vars(caught), fields, given)
+        else:
+            self.fail(f"no error for {given}")
+        self.assertEqual(repr(given), repr(before))
+
+    def test_one_wrong_argument(self):
+        for name, function, kinds in functions():
+            with self.subTest(name):
+                for at, kind in enumerate(kinds):
+                    for value, error, fields in KINDS[kind][1]:
+                        given = usual(kinds)
+                        given[at] = value
+                        self.check(function, given, error, fields)
+
+    def test_of_several_wrong_arguments_the_leftmost_one_counts(self):
+        for name, function, kinds in functions():
+            with self.subTest(name):
+                for one, other in combinations(range(len(kinds)), 2):
+                    for value, error, fields in KINDS[kinds[one]][1]:
+                        for later in [row[0] for row in KINDS[kinds[other]][1]][::7] or ODD:
+                            given = usual(kinds)
+                            given[one], given[other] = value, later
+                            self.check(function, given, error, fields)
+
+    def test_one_person_told_twice_comes_behind_all_others(self):
+        for function in (tables.is_over, tables.more_of, lays.lay):
+            for person in range(3):
+                self.check(function, [TOLD, person, person], NotTwo, {})
+            for kind, at in (("table", 0), ("person", 1), ("other person", 2)):
+                for value, error, fields in KINDS[kind][1]:
+                    given = [TOLD, 1, 1]
+                    given[at] = value
+                    self.check(function, given, error, fields)
+            for value, error, fields in KINDS["person"][1]:
+                self.check(function, [TOLD, value, value], error, fields)
+
+
+class RightArguments(unittest.TestCase):
+
+    def test_kinds_of_answers(self):
+        for name, function, kinds in functions():
+            with self.subTest(name):
+                answer = function(*usual(kinds))
+                if name in LISTS:
+                    self.assertIs(type(answer), list)
+                elif name in TRUTHS:
+                    self.assertIs(type(answer), bool)
+                elif name in NUMBERS:
+                    self.assertIs(type(answer), int)
+                else:
+                    self.assertIs(type(answer), tuple)
+
+    def test_equal_arguments_have_equal_answers_in_new_lists(self):
+        for name, function, kinds in functions():
+            with self.subTest(name):
+                answer = function(*usual(kinds))
+                kept = copy.deepcopy(answer)
+                self.assertEqual(function(*usual(kinds)), kept)
+                if name in LISTS:
+                    self.assertIsNot(function(*usual(kinds)), answer)
+                    answer.append("more")
+                    del answer[:1]
+                    self.assertEqual(function(*usual(kinds)), kept)
+
+    def test_arguments_stay_as_they_are(self):
+        for name, function, kinds in functions():
+            with self.subTest(name):
+                given = usual(kinds)
+                before = copy.deepcopy(given)
+                function(*given)
+                self.assertEqual(given, before)
+
+    def test_values_of_all_kinds_are_shown_or_not(self):
+        for name, function, kinds in functions():
+            if kinds[-1] != "value":
+                continue
+            for value in ODD + [row[0] for kind in KINDS for row in KINDS[kind][1]] + [told[0] for told in KINDS.values()]:
+                before = copy.deepcopy(value)
+                self.assertIs(type(function(*usual(kinds)[:-1], value)), bool, (name, value))
+                self.assertEqual(repr(value), repr(before))
+
+    def test_names_of_arguments(self):
+        one = TOLD
+        self.assertEqual(tables.heaps(table=one, good=0), (3, 1, 0))
+        self.assertIs(tables.is_over(table=one, one=0, other=1), False)
+        self.assertEqual(tables.place(table=one, row=(0, 1)), 0)
+        self.assertEqual(tables.odds_with(table=one, person=0), [1, 2])
+        self.assertIs(crowds.shows_way(one=one, other=one, value=(one,)), True)
+        self.assertEqual(lays.lay_all(table=one, lays=()), one)
+        self.assertEqual(lays.rounds(table=one, turns=0), one)
+        self.assertIs(lays.shows_lays(table=one, order=(0, 1, 2), value=()), False)
+        self.assertIs(fixed.brings_all(many=2, lays=((0, 1),)), True)
+        self.assertIs(fixed.shows_fixed(many=2, value=((0, 1),)), True)
+        self.assertEqual(backward.splits(table=one, one=(1, 1), other=(0, 0)), [((1, 0), (0, 1))])
+        self.assertEqual(counts.count_tables(heaps=((1,),)), 1)
+
+
+if __name__ == "__main__":
+    unittest.main()
