@@ -7,8 +7,9 @@ from laytogether.backward import (
     all_befores, befores, between, count_befores, count_splits, farthest_before, is_source, meetings, sources, splits,
 )
 from laytogether.crowds import crowd, is_deed, tower
-from laytogether.errors import BadRow, NotOver, TooMany
+from laytogether.errors import BadRow, NotOver
 from tests import plain
+from tests.cases import HowManyCase
 from tests.inputs import DEEP, WIDE
 
 TOLD = ((3, 1), (1, 2), (0, 4))
@@ -16,7 +17,11 @@ BASE = ((3, 4), (0, 1))
 TABLES = plain.small_tables() + plain.three_by_two() + plain.more_tables()[:5]
 LOTS = [((0, 1, 2), (0, 1, 2)), ((0, 1, 1), (0, 0, 1), (0, 1, 2)), ((0, 1), (3, 3), (2, 5)), ((0, 1, 2, 3), (0, 0, 1, 1))]
 
+# There are 3000 crowds of which deeds make this one, and 3001 of which they make the other one.
 EXACT = ((2, 2, 2, 2, 2), (1, 1, 0, 1, 2), (0, 0, 1, 1, 1), (0, 0, 0, 0, 1))
+ONE_MORE = ((3, 2, 3, 1), (2, 3, 1, 2), (2, 1, 2, 3), (2, 0, 0, 2), (0, 1, 1, 2), (0, 0, 0, 1))
+# Deeds make 3001 crowds of this one.
+LEADS_TO_ONE_MORE = ((5, 2, 1), (4, 4, 0), (4, 1, 4), (3, 3, 5), (1, 4, 1), (0, 5, 0))
 
 ON_ONE = (all_befores, sources, farthest_before)
 
@@ -120,6 +125,15 @@ class Edges(unittest.TestCase):
         self.assertEqual(befores(table), [((1, 1), (1, 0), (0, 1), (0, 0))])
         self.assertEqual(farthest_before(table), (2, ((1, 0), (1, 0), (0, 1), (0, 1))))
 
+    def test_the_nearest_crowd_need_not_be_the_least(self):
+        table = ((1, 2, 3), (0, 2, 0), (3, 2, 3), (2, 1, 1))
+        told = plain.all_befores(table)
+        first = [before for before in told if not plain.befores(before)]
+        self.assertEqual((len(first), sources(table)), (4, sorted(first)))
+        one, other = ((2, 0, 2), (1, 2, 0), (0, 2, 1)), ((1, 2, 0), (0, 2, 2), (2, 0, 1))
+        told = [((2, 2, 2), (1, 0, 0), (0, 2, 1)), ((2, 2, 2), (1, 0, 1), (0, 2, 0)), ((2, 2, 2), (1, 2, 0), (0, 0, 1))]
+        self.assertEqual((meetings(one, other), meetings(other, one)), (told, told))
+
     def test_where_one_does_not_come_to_other(self):
         self.assertEqual(between(BASE, ((3, 1), (0, 4))), [])
         self.assertEqual(meetings(BASE, ((3, 1), (0, 5))), [])
@@ -136,12 +150,7 @@ class Edges(unittest.TestCase):
         self.assertRaises(BadRow, count_splits, BASE, (0, 0), (1, True))
 
 
-class HowMany(unittest.TestCase):
-
-    def too_many(self, told, *given):
-        with self.assertRaises(TooMany) as caught:
-            told(*given)
-        self.assertEqual(caught.exception.most, 3000)
+class HowMany(HowManyCase):
 
     def test_as_many_as_are_allowed(self):
         found = all_befores(EXACT)
@@ -152,7 +161,10 @@ class HowMany(unittest.TestCase):
 
     def test_more(self):
         for told in ON_ONE:
+            self.too_many(told, ONE_MORE)
             self.too_many(told, DEEP)
+        self.too_many(between, ONE_MORE, ONE_MORE)
+        self.too_many(meetings, LEADS_TO_ONE_MORE, LEADS_TO_ONE_MORE)
         self.too_many(between, WIDE, DEEP)
         self.too_many(between, BASE, DEEP)
         self.too_many(meetings, WIDE, DEEP)

@@ -7,8 +7,8 @@ from laytogether.counts import (
     all_crowds, all_tables, count_by_odds, count_crowds, count_deeds, count_sources, count_tables, crowds_by_odds,
     longest_row, mean_odds, meet_chance, most_quarrels, odds_chance, top_chance, tower_chance,
 )
-from laytogether.errors import TooMany
 from tests import plain
+from tests.cases import HowManyCase
 
 SMALL = [
     ((7,),), ((0,), (99,), (5,), (5,), (0,)), ((0, 99),), ((4, 4),), ((0, 1), (0, 1)), ((0, 1), (3, 3), (5, 2)),
@@ -158,7 +158,7 @@ class Edges(unittest.TestCase):
         self.assertEqual(longest_row(((0, 1, 2, 3), (0, 1, 2, 3))), 6)
 
 
-class HowMany(unittest.TestCase):
+class HowMany(HowManyCase):
 
     def test_as_many_as_are_allowed(self):
         self.assertEqual(count_tables(EXACT), 5000)
@@ -180,9 +180,7 @@ class HowMany(unittest.TestCase):
         self.assertEqual([count_tables(heaps) for heaps in WIDE], [5184, 720 ** 5])
         for heaps in WIDE:
             for told in LIMITED:
-                with self.assertRaises(TooMany) as caught:
-                    told(heaps)
-                self.assertEqual(caught.exception.most, 5000)
+                self.too_many(told, heaps, most=5000)
             for told in (odds_chance, mean_odds, top_chance, tower_chance):
                 self.assertEqual(len(told(heaps)), 2)
 
@@ -190,7 +188,7 @@ class HowMany(unittest.TestCase):
         heaps = ((0, 1, 2, 3, 4, 5), (0, 0, 0, 0, 1, 1))
         self.assertEqual(count_tables(heaps), 10800)
         for told in LIMITED:
-            self.assertRaises(TooMany, told, heaps)
+            self.too_many(told, heaps, most=5000)
 
 
 if __name__ == "__main__":

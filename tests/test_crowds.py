@@ -7,8 +7,9 @@ from laytogether.crowds import (
     all_met, can_come, come_together, count_by_odds, count_met, count_ways, crowd, is_deed, least_deeds, most_deeds,
     next_crowds, shows_way, tower, way,
 )
-from laytogether.errors import NotLike, TooMany
+from laytogether.errors import NotLike
 from tests import plain
+from tests.cases import HowManyCase
 from tests.inputs import ODD, WIDE
 
 TOLD = ((3, 1), (1, 2), (0, 4))
@@ -16,7 +17,9 @@ TABLES = plain.small_tables() + plain.three_by_two() + plain.more_tables()
 # Crowds with one lot of heaps: all pairs of them are walked through.
 LOTS = [((0, 1, 2), (0, 1, 2)), ((0, 1, 1), (0, 0, 1), (0, 1, 2)), ((0, 1), (3, 3), (2, 5)), ((0, 1, 2, 3), (0, 0, 1, 1))]
 
+# Deeds make 3000 crowds of this one, and 3001 of the other one.
 EXACT = ((5, 5, 7, 9, 4), (3, 9, 5, 5, 7), (3, 0, 7, 9, 4), (1, 5, 7, 6, 8), (1, 1, 4, 4, 4), (0, 7, 8, 2, 2))
+ONE_MORE = ((5, 2, 1), (4, 4, 0), (4, 1, 4), (3, 3, 5), (1, 4, 1), (0, 5, 0))
 
 ON_ONE = (all_met, count_met, count_by_odds)
 ON_TWO = (can_come, least_deeds, most_deeds, count_ways, way)
@@ -116,6 +119,8 @@ class Edges(unittest.TestCase):
         other = ((1, 99),)
         self.assertEqual([told(table, other) for told in ON_TWO], [False, None, None, 0, None])
         self.assertIs(shows_way(table, other, None), True)
+        self.assertIs(shows_way(table, table, (table,)), True)
+        self.assertIs(shows_way(table, table, (other,)), False)
         self.assertIs(is_deed(table, table), False)
 
     def test_towers_and_equal_rows(self):
@@ -148,12 +153,7 @@ class Edges(unittest.TestCase):
         self.assertRaises(NotLike, shows_way, WIDE, TOLD, None)
 
 
-class HowMany(unittest.TestCase):
-
-    def too_many(self, told, *given):
-        with self.assertRaises(TooMany) as caught:
-            told(*given)
-        self.assertEqual(caught.exception.most, 3000)
+class HowMany(HowManyCase):
 
     def test_as_many_as_are_allowed(self):
         self.assertEqual(count_met(EXACT), 3000)
@@ -165,10 +165,13 @@ class HowMany(unittest.TestCase):
 
     def test_more(self):
         for told in ON_ONE:
+            self.too_many(told, ONE_MORE)
             self.too_many(told, WIDE)
         for told in ON_TWO:
+            self.too_many(told, ONE_MORE, ONE_MORE)
             self.too_many(told, WIDE, WIDE)
             self.too_many(told, WIDE, tower(WIDE))
+        self.too_many(shows_way, ONE_MORE, ONE_MORE, (ONE_MORE,))
         for value in (None, (WIDE,), "x"):
             self.too_many(shows_way, WIDE, WIDE, value)
 
