@@ -84,11 +84,15 @@ def check_number(value, least, most):
         raise BadNumber(f"no number from {least} to {most}")
 
 
+def is_order(value, many):
+    """Tell whether a value is a tuple of the numbers 0, 1, .., so many, in some order."""
+    numbers = is_tuple(value, many, many) and all(is_number(number, 0, many - 1) for number in value)
+    return numbers and sorted(value) == list(range(many))
+
+
 def check_order(table, order):
     """Raise BadOrder for a value that is not all people of a table in some order."""
-    many = len(table)
-    people = is_tuple(order, many, many) and all(is_number(person, 0, many - 1) for person in order)
-    if not people or sorted(order) != list(range(many)):
+    if not is_order(order, len(table)):
         raise BadOrder("no order of the people of the table")
 
 
@@ -184,9 +188,27 @@ def tower_of(table):
     return tuple(zip(*columns))
 
 
+def made_by_pairs(table):
+    """Return the list of the crowds that a deed makes, one for each pair at odds."""
+    return [crowd_of(laid(table, one, other)) for one, other in odds_pairs(table)]
+
+
 def nexts_of(table):
     """Return the ascending list of the different crowds that one deed makes."""
-    return sorted({crowd_of(laid(table, one, other)) for one, other in odds_pairs(table)})
+    return sorted(set(made_by_pairs(table)))
+
+
+def lots_of(many):
+    """Return the list of all ascending tuples of the numbers 0, 1, .., so many; the smallest ones first."""
+    return [lot for size in range(many + 1) for lot in combinations(range(many), size)]
+
+
+def choices(lots):
+    """Return the list of all tuples of one thing of each lot, by the things' places in their lots."""
+    found = [()]
+    for lot in lots:
+        found = [chosen + (thing,) for chosen in found for thing in lot]
+    return found
 
 
 def tally(numbers):

@@ -2,7 +2,7 @@
 
 from math import factorial
 
-from laytogether.basics import check_heaps, crowd_of, nexts_of, odds_pairs, ratio, tally, tower_of
+from laytogether.basics import check_heaps, choices, crowd_of, nexts_of, odds_pairs, ratio, tally, tower_of
 from laytogether.errors import TooMany
 
 MOST_TABLES = 5000
@@ -155,10 +155,7 @@ def orders_of(told):
 
 def tables_with(heaps):
     """Return the ascending list of the tables that have told heaps, without checks."""
-    found = [()]
-    for told in heaps:
-        found = [columns + (order,) for columns in found for order in orders_of(told)]
-    return sorted([tuple(zip(*columns)) for columns in found])
+    return sorted([tuple(zip(*columns)) for columns in choices([orders_of(told) for told in heaps])])
 
 
 def crowds_with(heaps):

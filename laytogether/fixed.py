@@ -1,6 +1,6 @@
 """Fixed lays, which are told without a table; one good of heaps 0 and 1 tells what they do to all tables."""
 
-from laytogether.basics import MOST_PEOPLE, check_lays, check_number, is_lays
+from laytogether.basics import MOST_PEOPLE, check_lays, check_number, choices, is_lays
 
 # Shortest lays for 1, 2, .. people; that there are no shorter ones is known (D. Knuth, of nets that compare).
 FEWEST_LAYS = (
@@ -77,10 +77,7 @@ def check_fixed(many, lays):
 
 def all_heaps(many):
     """Return the ascending list of the tuples of heaps 0 and 1 for so many people."""
-    found = [()]
-    for _ in range(many):
-        found = [heaps + (heap,) for heaps in found for heap in (0, 1)]
-    return found
+    return choices([(0, 1)] * many)
 
 
 def brought(heaps, lays):

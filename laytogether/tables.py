@@ -1,9 +1,7 @@
 """Tables: their heaps, who is over whom, who is at odds."""
 
-from itertools import combinations
-
 from laytogether.basics import check_good, check_person, check_row, check_table, check_two_people
-from laytogether.basics import odds_pairs, row_over, rows_at_odds
+from laytogether.basics import lots_of, odds_pairs, row_over, rows_at_odds
 
 
 def people(table):
@@ -107,14 +105,14 @@ def highest_tower(table):
     """Return the least of the largest ascending tuples of people no two of whom are at odds."""
     check_table(table)
     pairs = odds_pairs(table)
-    return least_largest([lot for lot in lots_of(table) if not pairs_within(pairs, lot)])
+    return least_largest([lot for lot in lots_of(len(table)) if not pairs_within(pairs, lot)])
 
 
 def widest_odds(table):
     """Return the least of the largest ascending tuples of people any two of whom are at odds."""
     check_table(table)
     pairs = odds_pairs(table)
-    return least_largest([lot for lot in lots_of(table) if len(pairs_within(pairs, lot)) == count_pairs(lot)])
+    return least_largest([lot for lot in lots_of(len(table)) if len(pairs_within(pairs, lot)) == count_pairs(lot)])
 
 
 def place(table, row):
@@ -144,12 +142,6 @@ def above(table, row):
 def quarrels(table, row):
     """Return the ascending list of the people with whom a row is at odds."""
     return [person for person, other in enumerate(table) if rows_at_odds(row, other)]
-
-
-def lots_of(table):
-    """Return the list of all ascending tuples of people of a table."""
-    many = len(table)
-    return [lot for size in range(many + 1) for lot in combinations(range(many), size)]
 
 
 def pairs_within(pairs, lot):

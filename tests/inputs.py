@@ -1,7 +1,7 @@
 """Wrong values for each kind of argument, with the error of each, and tables from which too much is made."""
 
 from laytogether.errors import (
-    BadGood, BadHeaps, BadLays, BadNumber, BadOrder, BadPerson, BadRow, BadTable,
+    BadGood, BadGoods, BadHeaps, BadLays, BadLevels, BadNumber, BadOrder, BadPerson, BadRow, BadTable,
 )
 
 TOLD = ((3, 1), (1, 2), (0, 4))
@@ -10,6 +10,10 @@ TOLD = ((3, 1), (1, 2), (0, 4))
 WIDE = ((5, 0, 2, 3, 1), (4, 1, 5, 0, 2), (3, 2, 1, 4, 5), (2, 3, 0, 5, 4), (1, 4, 3, 2, 0), (0, 5, 4, 1, 3))
 # There are more than 3000 crowds of which deeds make it.
 DEEP = tuple((heap,) * 5 for heap in (5, 4, 3, 2, 1, 0))
+
+# Deeds make 3000 crowds of this one, and 3001 of the other one.
+EXACT = ((5, 5, 7, 9, 4), (3, 9, 5, 5, 7), (3, 0, 7, 9, 4), (1, 5, 7, 6, 8), (1, 1, 4, 4, 4), (0, 7, 8, 2, 2))
+ONE_MORE = ((5, 2, 1), (4, 4, 0), (4, 1, 4), (3, 3, 5), (1, 4, 1), (0, 5, 0))
 
 # Values of all kinds that are of no use for any argument here.
 ODD = [
@@ -62,6 +66,18 @@ WRONG_ORDERS = [
     (False, 1, 2), (0, 1, None), (0, 1, "2"), ((0,), 1, 2), ([], 1, 2), ({}, 1, 2), (1, 2, 3),
 ]
 
+# Of two goods.
+WRONG_GOODS = [
+    *ROW_LIKE, 0, (), (0,), (0, 0), (1, 2), (0, 2), (-1, 0), (0, 1, 2), [0, 1], "01", (0, True), (False, 1), (1, None),
+    ("1", 0), ((0,), 1), ([], 1), (0, {}),
+]
+
+# Of numbers that need not be as many as people of a table.
+WRONG_TOLD_ORDERS = [
+    *ROW_LIKE, 0, (), (1,), (-1,), (0, 0), (0, 2), (1, 2), (0, 1, 3), (0, 1, 1), (0, 1, 2, 3, 4, 5, 6), [0, 1], "01",
+    {0: 0, 1: 1}, (False,), (0, True), (True, 0), (None,), ("0",), ((0,),), ([], 1), (0, {}), (0, 1, 2, 3, 4, 6),
+]
+
 
 def wrongs(values, error):
     """Rows (value, error, fields) of values with one error without fields."""
@@ -80,11 +96,17 @@ KINDS = {
     "person": (2, wrongs(wrong_integers(0, 2), BadPerson)),
     "other person": (0, wrongs(wrong_integers(0, 2), BadPerson)),
     "good": (1, wrongs(wrong_integers(0, 1), BadGood)),
+    "other good": (0, wrongs(wrong_integers(0, 1), BadGood)),
     "row": ((3, 4), wrongs(WRONG_ROWS, BadRow)),
     "lower row": ((0, 1), wrongs(WRONG_ROWS, BadRow)),
     "lays": (((0, 1), (2, 1)), wrongs_at(wrong_lays(3), BadLays)),
     "order": ((2, 0, 1), wrongs(WRONG_ORDERS, BadOrder)),
+    "goods order": ((1, 0), wrongs(WRONG_GOODS, BadGoods)),
+    "told order": ((2, 0, 1), wrongs(WRONG_TOLD_ORDERS, BadOrder)),
+    # Levels of two goods have the form of a row.
+    "levels": ((1, 2), wrongs(WRONG_ROWS, BadLevels)),
     "turns": (2, wrongs(wrong_integers(0, 60), BadNumber)),
+    "most": (2, wrongs(wrong_integers(0, 15), BadNumber)),
     "many": (3, wrongs(wrong_integers(1, 6), BadNumber)),
     "few": (3, wrongs(wrong_integers(1, 5), BadNumber)),
     "value": (None, []),

@@ -1,6 +1,7 @@
 """Second, plainly written answers: slow, and told another way than in the package."""
 
 from fractions import Fraction
+from functools import cache
 from itertools import combinations, permutations, product
 
 
@@ -59,16 +60,18 @@ def tower(table):
     return tuple(tuple(column[place] for column in columns) for place in range(len(table)))
 
 
+def deed(table, one, other):
+    """The crowd that the deed of two people makes."""
+    rows = [row for person, row in enumerate(table) if person not in (one, other)]
+    both = list(zip(table[one], table[other]))
+    rows.append(tuple(max(two) for two in both))
+    rows.append(tuple(min(two) for two in both))
+    return crowd(rows)
+
+
 def deeds(table):
     """The set of the crowds that one deed makes."""
-    made = set()
-    for one, other in odds_of(table):
-        rows = [row for person, row in enumerate(table) if person not in (one, other)]
-        both = list(zip(table[one], table[other]))
-        rows.append(tuple(max(two) for two in both))
-        rows.append(tuple(min(two) for two in both))
-        made.add(crowd(rows))
-    return made
+    return {deed(table, one, other) for one, other in odds_of(table)}
 
 
 def paths(start):
@@ -173,3 +176,106 @@ def counted(numbers):
     """How many of the numbers are 0, 1, .., up to the greatest one."""
     numbers = list(numbers)
     return tuple(numbers.count(k) for k in range(max(numbers) + 1))
+
+
+@cache
+def draws(table):
+    """All ways to draw deeds until there are none: pairs (chance, crowds come through), the way's own crowd first."""
+    pairs = odds_of(table)
+    if not pairs:
+        return [(Fraction(1), (crowd(table),))]
+    found = []
+    for one, other in pairs:
+        for chance_then, later in draws(deed(table, one, other)):
+            found.append((chance_then / len(pairs), (crowd(table),) + later))
+    return found
+
+
+@cache
+def mean_to_tower(table, steps_at):
+    """The mean of the sum of what steps_at tells of the number of pairs at odds of each crowd ahead of the tower."""
+    pairs = odds_of(table)
+    if not pairs:
+        return Fraction(0)
+    later = sum(mean_to_tower(deed(table, one, other), steps_at) for one, other in pairs)
+    return steps_at(len(pairs)) + later / len(pairs)
+
+
+def strictly(one, other):
+    return one != other and over(one, other)
+
+
+def chains(table):
+    """All tuples of people each of whom is strictly over the next one."""
+    found = []
+    for many in range(1, len(table) + 1):
+        for lot in permutations(range(len(table)), many):
+            if all(strictly(table[before], table[later]) for before, later in zip(lot, lot[1:])):
+                found.append(lot)
+    return found
+
+
+def sharings(people):
+    """All ways to share people among lots, each one in one lot."""
+    if not people:
+        return [[]]
+    first, rest = people[0], people[1:]
+    found = []
+    for lots in sharings(rest):
+        found.append([[first]] + lots)
+        found += [lots[:at] + [[first] + lots[at]] + lots[at + 1:] for at in range(len(lots))]
+    return found
+
+
+@cache
+def wins(table):
+    """Whether who does the first deed wins."""
+    return any(not wins(made) for made in deeds(table))
+
+
+@cache
+def wins_both(one, other):
+    """The same on two crowds."""
+    if any(not wins_both(made, other) for made in deeds(one)):
+        return True
+    return any(not wins_both(one, made) for made in deeds(other))
+
+
+@cache
+def worth(table):
+    taken = {worth(made) for made in deeds(table)}
+    number = 0
+    while number in taken:
+        number += 1
+    return number
+
+
+@cache
+def length(table):
+    """How many deeds are done if who wins wants few and the other one many."""
+    if not odds_of(table):
+        return 0
+    if wins(table):
+        return 1 + min(length(made) for made in deeds(table) if not wins(made))
+    return 1 + max(length(made) for made in deeds(table))
+
+
+def best_plays(table):
+    """The set of all plays each deed of which is one of the best."""
+    found = set()
+    for path in paths(crowd(table)):
+        good = not odds_of(path[-1])
+        for before, later in zip(path, path[1:]):
+            good = good and length(later) == length(before) - 1 and not (wins(before) and wins(later))
+        if good:
+            found.add(path)
+    return found
+
+
+@cache
+def fewest_left(table, own_turn=True):
+    """How many deeds are done if the first one wants few and the other one many, whoever wins."""
+    counts = [1 + fewest_left(made, not own_turn) for made in deeds(table)]
+    if not counts:
+        return 0
+    return min(counts) if own_turn else max(counts)

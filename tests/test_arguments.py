@@ -4,7 +4,9 @@ import copy
 import unittest
 from itertools import combinations
 
-from laytogether import backward, counts, crowds, fixed, lays, tables
+from laytogether import (
+    backward, counts, crowds, draws, fixed, lays, levels, parts, sums, tables,
+)
 from laytogether.errors import LayError, NotTwo
 from tests.inputs import KINDS, ODD, TOLD
 
@@ -50,20 +52,50 @@ FUNCTIONS = {
             "tower_chance", "meet_chance",
         )
     },
+    draws: {
+        "come_chance": ("table", "table"), "mean_deeds": ("table",), "mean_draws": ("table",),
+        "mean_pairs_met": ("table",), "after": ("table", "turns"), "deeds_chances": ("table",),
+        "likeliest_last": ("table",),
+    },
+    sums: {
+        "squares": ("table",), "most_squares": ("table",), "left_to_rise": ("table",), "climb": ("table",),
+        "rise": ("table", "person", "other person"), "rise_by_goods": ("table", "person", "other person"),
+        "bond": ("table", "good", "other good"), "most_bond": ("table", "good", "other good"),
+        "least_bond": ("table", "good", "other good"), "greatest_rise": ("table",), "least_rise": ("table",),
+        "hang_together": ("table", "good", "other good"), "goods_apart": ("table",), "share": ("table", "person"),
+        "middle_good": ("table",), "spans": ("heaps",),
+    },
+    levels: {
+        "cut": ("table", "levels"), "squeezed": ("table",), "counts_at": ("table", "levels"),
+        "both_at": ("table", "levels"), "tower_at": ("table", "levels"), "alike_at": ("table", "table", "levels"),
+        "is_tower_by_levels": ("table",), "is_squeezed": ("table",), "quarrel_levels": ("table",),
+    },
+    parts: {
+        "without_person": ("table", "person"), "without_good": ("table", "good"), "with_person": ("table", "row"),
+        "beside": ("table", "table"), "below": ("table", "table"), "people_in_order": ("table", "order"),
+        "goods_in_order": ("table", "goods order"), "kept_odds": ("table", "good"), "needless_goods": ("table",),
+        "fewest_goods": ("table",), "fewest_to_go": ("table",), "middle_rows": ("table",), "gaps": ("table", "row"),
+        "quarrels_with": ("table", "row"),
+    },
 }
 
 LISTS = {
     "at_odds", "tops", "bottoms", "free", "odds_with", "same_rows", "next_crowds", "all_met", "left_over", "splits",
-    "befores", "all_befores", "sources", "between", "meetings", "all_tables", "all_crowds",
+    "befores", "all_befores", "sources", "between", "meetings", "all_tables", "all_crowds", "after", "climb",
+    "goods_apart", "kept_odds", "needless_goods", "quarrels_with", "fronts", "next_orders", "rings", "winning_next",
 }
 TRUTHS = {
     "is_over", "is_tower", "fits", "come_together", "is_deed", "can_come", "shows_way", "shows_lays", "brings_all",
-    "shows_fixed", "is_source",
+    "shows_fixed", "is_source", "hang_together", "alike_at", "is_tower_by_levels", "is_squeezed", "shows_line",
+    "can_come_by_counts", "first_wins", "both_games", "shows_play", "deeds_left",
 }
 NUMBERS = {
     "people", "goods", "count_at_odds", "place", "count_met", "count_ways", "least_deeds", "most_deeds", "least_lays",
     "count_laid", "count_orders_met", "lays_to_top", "lays_to_bottom", "least_rounds", "count_left", "count_states",
     "count_splits", "count_befores", "count_tables", "count_crowds", "count_sources", "count_deeds", "longest_row",
+    "squares", "most_squares", "left_to_rise", "rise", "rise_by_goods", "bond", "most_bond", "least_bond",
+    "least_rise", "both_at", "count_fronts", "front_of", "count_strict", "fewest_towers", "steps_over",
+    "least_by_rings", "most_by_odds", "count_below", "worth", "game_length",
 }
 
 
@@ -108,17 +140,22 @@ class WrongArguments(unittest.TestCase):
                             given[one], given[other] = value, later
                             self.check(function, given, error, fields)
 
-    def test_one_person_told_twice_comes_behind_all_others(self):
-        for function in (tables.is_over, tables.more_of, lays.lay):
-            for person in range(3):
-                self.check(function, [TOLD, person, person], NotTwo, {})
-            for kind, at in (("table", 0), ("person", 1), ("other person", 2)):
-                for value, error, fields in KINDS[kind][1]:
-                    given = [TOLD, 1, 1]
-                    given[at] = value
-                    self.check(function, given, error, fields)
-            for value, error, fields in KINDS["person"][1]:
-                self.check(function, [TOLD, value, value], error, fields)
+    def test_one_person_or_good_told_twice_comes_behind_all_others(self):
+        for function in (tables.is_over, tables.more_of, lays.lay, sums.rise, sums.rise_by_goods):
+            self.check_told_twice(function, ("table", "person", "other person"), range(3))
+        for function in (sums.bond, sums.most_bond, sums.least_bond, sums.hang_together):
+            self.check_told_twice(function, ("table", "good", "other good"), range(2))
+
+    def check_told_twice(self, function, kinds, things):
+        for thing in things:
+            self.check(function, [TOLD, thing, thing], NotTwo, {})
+        for at, kind in enumerate(kinds):
+            for value, error, fields in KINDS[kind][1]:
+                given = [TOLD, 1, 1]
+                given[at] = value
+                self.check(function, given, error, fields)
+        for value, error, fields in KINDS[kinds[1]][1]:
+            self.check(function, [TOLD, value, value], error, fields)
 
 
 class RightArguments(unittest.TestCase):
@@ -160,7 +197,8 @@ class RightArguments(unittest.TestCase):
         for name, function, kinds in functions():
             if kinds[-1] != "value":
                 continue
-            for value in ODD + [row[0] for kind in KINDS for row in KINDS[kind][1]] + [told[0] for told in KINDS.values()]:
+            wrong = [row[0] for kind in KINDS for row in KINDS[kind][1]]
+            for value in ODD + wrong + [told[0] for told in KINDS.values()]:
                 before = copy.deepcopy(value)
                 self.assertIs(type(function(*usual(kinds)[:-1], value)), bool, (name, value))
                 self.assertEqual(repr(value), repr(before))
@@ -179,6 +217,10 @@ class RightArguments(unittest.TestCase):
         self.assertIs(fixed.shows_fixed(many=2, value=((0, 1),)), True)
         self.assertEqual(backward.splits(table=one, one=(1, 1), other=(0, 0)), [((1, 0), (0, 1))])
         self.assertEqual(counts.count_tables(heaps=((1,),)), 1)
+        self.assertEqual(draws.after(table=one, deeds=0), [(one, (1, 1))])
+        self.assertEqual(sums.bond(table=one, one=0, other=1), 5)
+        self.assertEqual(levels.cut(table=one, levels=(9, 9)), ((0, 0),) * 3)
+        self.assertEqual(parts.without_person(table=one, person=0), one[1:])
 
 
 if __name__ == "__main__":

@@ -11,6 +11,7 @@ from laytogether.errors import BadRow, NotOver
 from tests import plain
 from tests.cases import HowManyCase
 from tests.inputs import DEEP, WIDE
+from tests.inputs import ONE_MORE as LEADS_TO_ONE_MORE
 
 TOLD = ((3, 1), (1, 2), (0, 4))
 BASE = ((3, 4), (0, 1))
@@ -20,8 +21,6 @@ LOTS = [((0, 1, 2), (0, 1, 2)), ((0, 1, 1), (0, 0, 1), (0, 1, 2)), ((0, 1), (3, 
 # There are 3000 crowds of which deeds make this one, and 3001 of which they make the other one.
 EXACT = ((2, 2, 2, 2, 2), (1, 1, 0, 1, 2), (0, 0, 1, 1, 1), (0, 0, 0, 0, 1))
 ONE_MORE = ((3, 2, 3, 1), (2, 3, 1, 2), (2, 1, 2, 3), (2, 0, 0, 2), (0, 1, 1, 2), (0, 0, 0, 1))
-# Deeds make 3001 crowds of this one.
-LEADS_TO_ONE_MORE = ((5, 2, 1), (4, 4, 0), (4, 1, 4), (3, 3, 5), (1, 4, 1), (0, 5, 0))
 
 ON_ONE = (all_befores, sources, farthest_before)
 

@@ -10,16 +10,12 @@ from laytogether.crowds import (
 from laytogether.errors import NotLike
 from tests import plain
 from tests.cases import HowManyCase
-from tests.inputs import ODD, WIDE
+from tests.inputs import EXACT, ODD, ONE_MORE, WIDE
 
 TOLD = ((3, 1), (1, 2), (0, 4))
 TABLES = plain.small_tables() + plain.three_by_two() + plain.more_tables()
 # Crowds with one lot of heaps: all pairs of them are walked through.
 LOTS = [((0, 1, 2), (0, 1, 2)), ((0, 1, 1), (0, 0, 1), (0, 1, 2)), ((0, 1), (3, 3), (2, 5)), ((0, 1, 2, 3), (0, 0, 1, 1))]
-
-# Deeds make 3000 crowds of this one, and 3001 of the other one.
-EXACT = ((5, 5, 7, 9, 4), (3, 9, 5, 5, 7), (3, 0, 7, 9, 4), (1, 5, 7, 6, 8), (1, 1, 4, 4, 4), (0, 7, 8, 2, 2))
-ONE_MORE = ((5, 2, 1), (4, 4, 0), (4, 1, 4), (3, 3, 5), (1, 4, 1), (0, 5, 0))
 
 ON_ONE = (all_met, count_met, count_by_odds)
 ON_TWO = (can_come, least_deeds, most_deeds, count_ways, way)

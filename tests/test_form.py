@@ -2,6 +2,7 @@
 
 import ast
 import builtins
+import re
 import unittest
 from pathlib import Path
 
@@ -33,17 +34,57 @@ TAKES_GENERATORS = {"list", "tuple", "dict", "sorted", "sum", "min", "max", "any
 TAKES_SETS = {"sorted", "len"}
 
 INTERFACE = {
-    "tables": """people goods count_at_odds place heaps totals more_of highest_tower widest_odds is_over is_tower fits
-        at_odds tops bottoms free odds_with quarrelsome same_rows""",
-    "crowds": """crowd tower next_crowds all_met come_together is_deed can_come shows_way count_met count_ways
-        count_by_odds least_deeds most_deeds way""",
-    "lays": """lay lay_all in_order rounds changing helpers lays_for shows_lays least_lays count_laid count_orders_met
-        lays_to_top lays_to_bottom least_rounds easiest_order""",
-    "fixed": "brings_all shows_fixed left_over count_left count_states idle plain_lays fewest_lays",
-    "backward": """splits count_splits count_befores befores all_befores sources between meetings is_source
-        farthest_before""",
-    "counts": """count_tables count_crowds count_sources count_deeds longest_row all_tables all_crowds count_by_odds
-        crowds_by_odds most_quarrels odds_chance mean_odds top_chance tower_chance meet_chance""",
+    "tables": """
+        people(table) goods(table) count_at_odds(table) place(table, row) heaps(table, good) totals(table)
+        more_of(table, one, other) highest_tower(table) widest_odds(table) is_over(table, one, other)
+        is_tower(table) fits(table, row) at_odds(table) tops(table) bottoms(table) free(table)
+        odds_with(table, person) quarrelsome(table) same_rows(table)
+    """,
+    "crowds": """
+        crowd(table) tower(table) next_crowds(table) all_met(table) come_together(one, other) is_deed(one, other)
+        can_come(one, other) shows_way(one, other, value) count_met(table) count_ways(one, other)
+        count_by_odds(table) least_deeds(one, other) most_deeds(one, other) way(one, other)
+    """,
+    "lays": """
+        lay(table, one, other) lay_all(table, lays) in_order(table, order) rounds(table, turns)
+        changing(table, lays) helpers(table, person) lays_for(table, order) shows_lays(table, order, value)
+        least_lays(table, order) count_laid(table) count_orders_met(table) lays_to_top(table, person)
+        lays_to_bottom(table, person) least_rounds(table) easiest_order(table)
+    """,
+    "fixed": """
+        brings_all(many, lays) shows_fixed(many, value) left_over(many, lays) count_left(many, lays)
+        count_states(many, lays) idle(many, lays) plain_lays(many) fewest_lays(many)
+    """,
+    "backward": """
+        splits(table, one, other) count_splits(table, one, other) count_befores(table) befores(table)
+        all_befores(table) sources(table) between(one, other) meetings(one, other) is_source(table)
+        farthest_before(table)
+    """,
+    "counts": """
+        count_tables(heaps) count_crowds(heaps) count_sources(heaps) count_deeds(heaps) longest_row(heaps)
+        all_tables(heaps) all_crowds(heaps) count_by_odds(heaps) crowds_by_odds(heaps) most_quarrels(heaps)
+        odds_chance(heaps) mean_odds(heaps) top_chance(heaps) tower_chance(heaps) meet_chance(heaps)
+    """,
+    "draws": """
+        come_chance(one, other) mean_deeds(table) mean_draws(table) mean_pairs_met(table) after(table, deeds)
+        deeds_chances(table) likeliest_last(table)
+    """,
+    "sums": """
+        squares(table) most_squares(table) left_to_rise(table) rise(table, one, other)
+        rise_by_goods(table, one, other) bond(table, one, other) most_bond(table, one, other)
+        least_bond(table, one, other) greatest_rise(table) least_rise(table) climb(table)
+        hang_together(table, one, other) goods_apart(table) share(table, person) middle_good(table) spans(heaps)
+    """,
+    "levels": """
+        cut(table, levels) squeezed(table) counts_at(table, levels) both_at(table, levels) tower_at(table, levels)
+        alike_at(one, other, levels) is_tower_by_levels(table) is_squeezed(table) quarrel_levels(table)
+    """,
+    "parts": """
+        without_person(table, person) without_good(table, good) with_person(table, row) beside(one, other)
+        below(one, other) people_in_order(table, order) goods_in_order(table, order) kept_odds(table, good)
+        needless_goods(table) fewest_goods(table) fewest_to_go(table) middle_rows(table) gaps(table, row)
+        quarrels_with(table, row)
+    """,
 }
 
 
@@ -184,10 +225,10 @@ class Form(unittest.TestCase):
         self.each(check)
 
     def test_each_name_of_the_interface_is_defined_in_its_file(self):
-        for module, names in INTERFACE.items():
+        for module, told in INTERFACE.items():
             body = parsed(FOLDER / f"{module}.py").body
-            defined = {node.name for node in body if isinstance(node, ast.FunctionDef)}
-            self.assertLessEqual(set(names.split()), defined, module)
+            defined = {f"{node.name}({ast.unparse(node.args)})" for node in body if isinstance(node, ast.FunctionDef)}
+            self.assertLessEqual(set(re.findall(r"\w+\(.*?\)", told)), defined, module)
 
 
 if __name__ == "__main__":
