@@ -5,7 +5,7 @@ import unittest
 from itertools import combinations
 
 from laytogether import (
-    backward, counts, crowds, draws, fixed, lays, levels, parts, sums, tables,
+    backward, counts, crowds, draws, fixed, fronts, games, lays, levels, parts, sums, tables, twos,
 )
 from laytogether.errors import LayError, NotTwo
 from tests.inputs import KINDS, ODD, TOLD
@@ -76,6 +76,22 @@ FUNCTIONS = {
         "goods_in_order": ("table", "goods order"), "kept_odds": ("table", "good"), "needless_goods": ("table",),
         "fewest_goods": ("table",), "fewest_to_go": ("table",), "middle_rows": ("table",), "gaps": ("table", "row"),
         "quarrels_with": ("table", "row"),
+    },
+    fronts: {
+        "fronts": ("table",), "count_fronts": ("table",), "front_of": ("table", "person"), "count_strict": ("table",),
+        "fewest_towers": ("table",), "sizes": ("table",), "line_down": ("table", "person"),
+        "shows_line": ("table", "person", "value"), "steps_over": ("table", "person", "person"),
+    },
+    twos: {
+        "order": ("table",), "from_order": ("told order",), "next_orders": ("table",), "rings": ("table",),
+        "least_by_rings": ("table",), "most_by_odds": ("table",), "count_below": ("table",),
+        "can_come_by_counts": ("table", "table"), "count_orders_by_odds": ("many",),
+        "count_orders_by_rings": ("many",),
+    },
+    games: {
+        "worth": ("table",), "game_length": ("table",), "first_wins": ("table",), "both_games": ("table", "table"),
+        "shows_play": ("table", "value"), "deeds_left": ("table", "most"), "winning_next": ("table",),
+        "best_play": ("table",), "first_chance": ("table",),
     },
 }
 
@@ -221,6 +237,9 @@ class RightArguments(unittest.TestCase):
         self.assertEqual(sums.bond(table=one, one=0, other=1), 5)
         self.assertEqual(levels.cut(table=one, levels=(9, 9)), ((0, 0),) * 3)
         self.assertEqual(parts.without_person(table=one, person=0), one[1:])
+        self.assertEqual(fronts.steps_over(table=one, one=0, other=0), 0)
+        self.assertEqual(twos.from_order(told=(0,)), ((0, 0),))
+        self.assertIs(games.deeds_left(table=one, most=0), False)
 
 
 if __name__ == "__main__":

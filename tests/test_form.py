@@ -85,6 +85,18 @@ INTERFACE = {
         needless_goods(table) fewest_goods(table) fewest_to_go(table) middle_rows(table) gaps(table, row)
         quarrels_with(table, row)
     """,
+    "fronts": """
+        fronts(table) count_fronts(table) front_of(table, person) count_strict(table) fewest_towers(table)
+        sizes(table) line_down(table, person) shows_line(table, person, value) steps_over(table, one, other)
+    """,
+    "twos": """
+        order(table) from_order(told) next_orders(table) rings(table) least_by_rings(table) most_by_odds(table)
+        count_below(table) can_come_by_counts(one, other) count_orders_by_odds(many) count_orders_by_rings(many)
+    """,
+    "games": """
+        worth(table) game_length(table) first_wins(table) both_games(one, other) shows_play(table, value)
+        deeds_left(table, most) winning_next(table) best_play(table) first_chance(table)
+    """,
 }
 
 
