@@ -78,6 +78,12 @@ WRONG_TOLD_ORDERS = [
     {0: 0, 1: 1}, (False,), (0, True), (True, 0), (None,), ("0",), ((0,),), ([], 1), (0, {}), (0, 1, 2, 3, 4, 6),
 ]
 
+# Of 1 to 5 heaps, as many as there may be.
+WRONG_FREE_ROWS = [
+    *ROW_LIKE, 0, (), (1, 2, 3, 4, 5, 6), (True,), (1, False), (1, -1), (100, 2), (1, 2, 3, 4, 100), (None,), (1, "2"),
+    ((1,),), ([], 2), ({}, 2), ((3, 1), (1, 2)), [1, 0], 10 ** 40,
+]
+
 
 def wrongs(values, error):
     """Rows (value, error, fields) of values with one error without fields."""
@@ -109,5 +115,14 @@ KINDS = {
     "most": (2, wrongs(wrong_integers(0, 15), BadNumber)),
     "many": (3, wrongs(wrong_integers(1, 6), BadNumber)),
     "few": (3, wrongs(wrong_integers(1, 5), BadNumber)),
+    "people": (2, wrongs(wrong_integers(1, 6), BadNumber)),
+    "goods": (2, wrongs(wrong_integers(1, 5), BadNumber)),
+    "heap": (2, wrongs(wrong_integers(0, 99), BadNumber)),
+    "free row": ((3, 0), wrongs(WRONG_FREE_ROWS, BadRow)),
+    # No less than the greatest heap of that row.
+    "greatest heap": (4, wrongs(wrong_integers(3, 99), BadNumber)),
+    # What may be any value: the second one is answered by True or False.
+    "any": (None, []),
     "value": (None, []),
+    "any order": ((2, 0, 1), []),
 }

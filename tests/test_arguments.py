@@ -5,7 +5,8 @@ import unittest
 from itertools import combinations
 
 from laytogether import (
-    backward, counts, crowds, draws, fixed, fronts, games, lays, levels, parts, sums, tables, twos,
+    backward, compares, counts, crowds, drawn, draws, fixed, fronts, games, lays, levels, papers, parts, seats, sums,
+    tables, twos,
 )
 from laytogether.errors import LayError, NotTwo
 from tests.inputs import KINDS, ODD, TOLD
@@ -93,17 +94,43 @@ FUNCTIONS = {
         "shows_play": ("table", "value"), "deeds_left": ("table", "most"), "winning_next": ("table",),
         "best_play": ("table",), "first_chance": ("table",),
     },
+    seats: {
+        "side_odds": ("table",), "is_quiet": ("table",), "row_nexts": ("table",), "quiet_ends": ("table",),
+        "count_row": ("table",), "least_quiet": ("table",), "least_even_odd": ("table",), "swept": ("table", "turns"),
+        "even_odd": ("table", "turns"), "passed_round": ("table", "turns"), "where_top": ("table", "turns"),
+    },
+    drawn: {
+        "two_at_odds": ("goods", "heap"), "mean_drawn_odds": ("people", "goods", "heap"),
+        "over_all": ("people", "goods", "heap"), "tower_drawn": ("people", "goods", "heap"),
+        "count_towers": ("people", "goods", "heap"), "count_tower_tables": ("people", "goods", "heap"),
+        "count_rows_over": ("free row", "greatest heap"), "count_rows_under": ("free row", "greatest heap"),
+        "count_rows_at_odds": ("free row", "greatest heap"),
+    },
+    papers: {
+        "to_tower": ("table",), "over_and_back": ("table", "table"), "shows_to_tower": ("table", "value"),
+        "shows_over_and_back": ("table", "table", "value"), "pairs_written": ("table",), "first_wrong": ("any",),
+        "more_counts": ("table",),
+    },
+    compares: {
+        "same_heaps": ("table", "table"), "unlike_people": ("table", "table"), "same_odds": ("table", "table"),
+        "is_crowd_of": ("table", "table"), "over_all_of": ("table", "table"), "names_for": ("table", "table"),
+        "greater": ("table", "table"), "lesser": ("table", "table"), "moved": ("table", "table"),
+        "to_order": ("table", "any order"), "cheapest_order": ("table",), "agreeing_orders": ("table",),
+        "count_agreeing": ("table",),
+    },
 }
 
 LISTS = {
     "at_odds", "tops", "bottoms", "free", "odds_with", "same_rows", "next_crowds", "all_met", "left_over", "splits",
     "befores", "all_befores", "sources", "between", "meetings", "all_tables", "all_crowds", "after", "climb",
     "goods_apart", "kept_odds", "needless_goods", "quarrels_with", "fronts", "next_orders", "rings", "winning_next",
+    "side_odds", "row_nexts", "quiet_ends", "agreeing_orders",
 }
 TRUTHS = {
     "is_over", "is_tower", "fits", "come_together", "is_deed", "can_come", "shows_way", "shows_lays", "brings_all",
     "shows_fixed", "is_source", "hang_together", "alike_at", "is_tower_by_levels", "is_squeezed", "shows_line",
-    "can_come_by_counts", "first_wins", "both_games", "shows_play", "deeds_left",
+    "can_come_by_counts", "first_wins", "both_games", "shows_play", "deeds_left", "is_quiet", "shows_to_tower",
+    "shows_over_and_back", "same_odds", "is_crowd_of", "over_all_of",
 }
 NUMBERS = {
     "people", "goods", "count_at_odds", "place", "count_met", "count_ways", "least_deeds", "most_deeds", "least_lays",
@@ -111,8 +138,12 @@ NUMBERS = {
     "count_splits", "count_befores", "count_tables", "count_crowds", "count_sources", "count_deeds", "longest_row",
     "squares", "most_squares", "left_to_rise", "rise", "rise_by_goods", "bond", "most_bond", "least_bond",
     "least_rise", "both_at", "count_fronts", "front_of", "count_strict", "fewest_towers", "steps_over",
-    "least_by_rings", "most_by_odds", "count_below", "worth", "game_length",
+    "least_by_rings", "most_by_odds", "count_below", "worth", "game_length", "count_row", "least_quiet",
+    "least_even_odd", "count_towers", "count_tower_tables", "count_rows_over", "count_rows_under",
+    "count_rows_at_odds", "first_wrong", "moved", "to_order", "count_agreeing",
 }
+# Of the usual arguments.
+NONES = {"where_top"}
 
 
 def functions():
@@ -186,6 +217,8 @@ class RightArguments(unittest.TestCase):
                     self.assertIs(type(answer), bool)
                 elif name in NUMBERS:
                     self.assertIs(type(answer), int)
+                elif name in NONES:
+                    self.assertIsNone(answer)
                 else:
                     self.assertIs(type(answer), tuple)
 
@@ -219,6 +252,16 @@ class RightArguments(unittest.TestCase):
                 self.assertIs(type(function(*usual(kinds)[:-1], value)), bool, (name, value))
                 self.assertEqual(repr(value), repr(before))
 
+    def test_no_value_is_an_error_where_any_one_may_be_passed(self):
+        for name, function, kinds in functions():
+            if not kinds[-1].startswith("any"):
+                continue
+            wrong = [row[0] for kind in KINDS for row in KINDS[kind][1]]
+            for value in ODD + wrong + [told[0] for told in KINDS.values()]:
+                before = copy.deepcopy(value)
+                self.assertIn(type(function(*usual(kinds)[:-1], value)), (int, tuple, type(None)), (name, value))
+                self.assertEqual(repr(value), repr(before))
+
     def test_names_of_arguments(self):
         one = TOLD
         self.assertEqual(tables.heaps(table=one, good=0), (3, 1, 0))
@@ -240,6 +283,13 @@ class RightArguments(unittest.TestCase):
         self.assertEqual(fronts.steps_over(table=one, one=0, other=0), 0)
         self.assertEqual(twos.from_order(told=(0,)), ((0, 0),))
         self.assertIs(games.deeds_left(table=one, most=0), False)
+        self.assertEqual(seats.even_odd(table=one, turns=0), one)
+        self.assertEqual(drawn.over_all(people=1, goods=1, most=1), (1, 1))
+        self.assertEqual(drawn.count_rows_over(row=(1,), most=1), 2)
+        self.assertIs(papers.shows_over_and_back(one=one, other=one, value=(one,)), True)
+        self.assertEqual(papers.first_wrong(value=()), 0)
+        self.assertEqual(compares.moved(one=one, other=one), 0)
+        self.assertIsNone(compares.to_order(table=one, order=()))
 
 
 if __name__ == "__main__":

@@ -97,6 +97,25 @@ INTERFACE = {
         worth(table) game_length(table) first_wins(table) both_games(one, other) shows_play(table, value)
         deeds_left(table, most) winning_next(table) best_play(table) first_chance(table)
     """,
+    "seats": """
+        side_odds(table) is_quiet(table) row_nexts(table) quiet_ends(table) count_row(table) least_quiet(table)
+        least_even_odd(table) swept(table, turns) even_odd(table, turns) passed_round(table, turns)
+        where_top(table, turns)
+    """,
+    "drawn": """
+        two_at_odds(goods, most) mean_drawn_odds(people, goods, most) over_all(people, goods, most)
+        tower_drawn(people, goods, most) count_towers(people, goods, most) count_tower_tables(people, goods, most)
+        count_rows_over(row, most) count_rows_under(row, most) count_rows_at_odds(row, most)
+    """,
+    "papers": """
+        to_tower(table) over_and_back(one, other) shows_to_tower(table, value) shows_over_and_back(one, other, value)
+        pairs_written(table) first_wrong(value) more_counts(table)
+    """,
+    "compares": """
+        same_heaps(one, other) unlike_people(one, other) same_odds(one, other) is_crowd_of(one, other)
+        over_all_of(one, other) names_for(one, other) greater(one, other) lesser(one, other) moved(one, other)
+        to_order(table, order) cheapest_order(table) agreeing_orders(table) count_agreeing(table)
+    """,
 }
 
 
