@@ -1,7 +1,7 @@
 """Wrong values for each kind of argument, with the error of each, and tables from which too much is made."""
 
 from laytogether.errors import (
-    BadGood, BadGoods, BadHeaps, BadLays, BadLevels, BadNumber, BadOrder, BadPerson, BadRow, BadTable,
+    BadGood, BadGoods, BadHeaps, BadLays, BadLevels, BadNumber, BadOrder, BadPerson, BadRow, BadTable, BadText,
 )
 
 TOLD = ((3, 1), (1, 2), (0, 4))
@@ -84,6 +84,8 @@ WRONG_FREE_ROWS = [
     ((1,),), ([], 2), ({}, 2), ((3, 1), (1, 2)), [1, 0], 10 ** 40,
 ]
 
+NO_TEXTS = [value for value in ODD if not isinstance(value, str)] + [0, 5, (), ("3 1",), ["3 1"], {"3 1": "3 1"}, TOLD]
+
 
 def wrongs(values, error):
     """Rows (value, error, fields) of values with one error without fields."""
@@ -121,8 +123,13 @@ KINDS = {
     "free row": ((3, 0), wrongs(WRONG_FREE_ROWS, BadRow)),
     # No less than the greatest heap of that row.
     "greatest heap": (4, wrongs(wrong_integers(3, 99), BadNumber)),
+    # Of a tower, for what is told of towers alone.
+    "tower": (((3, 4), (1, 2), (0, 1)), wrongs_at(uneven(6, 5), BadTable)),
+    "text of table": ("3 1\n0 4", wrongs(NO_TEXTS, BadText)),
+    "text of lays": ("0>1 2>1", wrongs(NO_TEXTS, BadText)),
     # What may be any value: the second one is answered by True or False.
     "any": (None, []),
     "value": (None, []),
     "any order": ((2, 0, 1), []),
+    "any lot": ((2, 0), []),
 }

@@ -5,8 +5,8 @@ import unittest
 from itertools import combinations
 
 from laytogether import (
-    backward, compares, counts, crowds, drawn, draws, fixed, fronts, games, lays, levels, papers, parts, seats, sums,
-    tables, twos,
+    backward, compares, counts, crowds, drawn, draws, fixed, fronts, games, lays, laytexts, levels, papers, parts,
+    plans, seats, stairs, sums, tables, twos,
 )
 from laytogether.errors import LayError, NotTwo
 from tests.inputs import KINDS, ODD, TOLD
@@ -118,19 +118,34 @@ FUNCTIONS = {
         "to_order": ("table", "any order"), "cheapest_order": ("table",), "agreeing_orders": ("table",),
         "count_agreeing": ("table",),
     },
+    laytexts: {
+        "write_table": ("table",), "write_lays": ("table", "lays"), "read_table": ("text of table",),
+        "read_lays": ("table", "text of lays"),
+    },
+    stairs: {
+        "steps": ("tower",), "bumped": ("tower", "row"), "is_tower_step": ("tower", "row"),
+        "tower_below": ("table", "table"), "goes_through": ("tower", "row"), "pushed_in": ("tower", "row"),
+        "count_deeds_in": ("tower", "row"), "built": ("table",), "best_pair": ("table",),
+    },
+    plans: {
+        "met": ("table", "lays"), "all_meet": ("table",), "host": ("table", "person"), "deeds_done": ("table", "lays"),
+        "meetings_needed": ("table",), "ends_at_tower": ("table", "lays"), "host_has_top": ("table", "person"),
+        "reach": ("table", "any lot"),
+    },
 }
 
 LISTS = {
     "at_odds", "tops", "bottoms", "free", "odds_with", "same_rows", "next_crowds", "all_met", "left_over", "splits",
     "befores", "all_befores", "sources", "between", "meetings", "all_tables", "all_crowds", "after", "climb",
     "goods_apart", "kept_odds", "needless_goods", "quarrels_with", "fronts", "next_orders", "rings", "winning_next",
-    "side_odds", "row_nexts", "quiet_ends", "agreeing_orders",
+    "side_odds", "row_nexts", "quiet_ends", "agreeing_orders", "goes_through", "built",
 }
 TRUTHS = {
     "is_over", "is_tower", "fits", "come_together", "is_deed", "can_come", "shows_way", "shows_lays", "brings_all",
     "shows_fixed", "is_source", "hang_together", "alike_at", "is_tower_by_levels", "is_squeezed", "shows_line",
     "can_come_by_counts", "first_wins", "both_games", "shows_play", "deeds_left", "is_quiet", "shows_to_tower",
-    "shows_over_and_back", "same_odds", "is_crowd_of", "over_all_of",
+    "shows_over_and_back", "same_odds", "is_crowd_of", "over_all_of", "is_tower_step", "tower_below", "ends_at_tower",
+    "host_has_top",
 }
 NUMBERS = {
     "people", "goods", "count_at_odds", "place", "count_met", "count_ways", "least_deeds", "most_deeds", "least_lays",
@@ -140,8 +155,10 @@ NUMBERS = {
     "least_rise", "both_at", "count_fronts", "front_of", "count_strict", "fewest_towers", "steps_over",
     "least_by_rings", "most_by_odds", "count_below", "worth", "game_length", "count_row", "least_quiet",
     "least_even_odd", "count_towers", "count_tower_tables", "count_rows_over", "count_rows_under",
-    "count_rows_at_odds", "first_wrong", "moved", "to_order", "count_agreeing",
+    "count_rows_at_odds", "first_wrong", "moved", "to_order", "count_agreeing", "count_deeds_in", "deeds_done",
+    "meetings_needed",
 }
+TEXTS = {"write_table", "write_lays"}
 # Of the usual arguments.
 NONES = {"where_top"}
 
@@ -217,6 +234,8 @@ class RightArguments(unittest.TestCase):
                     self.assertIs(type(answer), bool)
                 elif name in NUMBERS:
                     self.assertIs(type(answer), int)
+                elif name in TEXTS:
+                    self.assertIs(type(answer), str)
                 elif name in NONES:
                     self.assertIsNone(answer)
                 else:
@@ -290,6 +309,13 @@ class RightArguments(unittest.TestCase):
         self.assertEqual(papers.first_wrong(value=()), 0)
         self.assertEqual(compares.moved(one=one, other=one), 0)
         self.assertIsNone(compares.to_order(table=one, order=()))
+        self.assertEqual(laytexts.read_table(text="1"), ((1,),))
+        self.assertEqual(laytexts.read_lays(table=one, text="0>1"), ((0, 1),))
+        self.assertIs(stairs.is_tower_step(table=one[:1], row=(3, 1)), True)
+        self.assertIs(stairs.tower_below(one=one, other=one), True)
+        self.assertEqual(plans.met(table=one, pairs=()), one)
+        self.assertEqual(plans.host(table=one[:1], person=0), one[:1])
+        self.assertIsNone(plans.reach(table=one, lot=()))
 
 
 if __name__ == "__main__":

@@ -2,7 +2,6 @@
 
 import ast
 import builtins
-import re
 import unittest
 from pathlib import Path
 
@@ -14,6 +13,7 @@ FILES = sorted(FOLDER.rglob("*.py"))
 ALLOWED_BUILTINS = {
     "len", "range", "enumerate", "zip", "min", "max", "sum", "abs", "sorted", "reversed", "int", "str", "bool", "list",
     "tuple", "dict", "set", "isinstance", "ord", "repr", "any", "all", "divmod", "map", "super", "ValueError",
+    "property",
 }
 ALLOWED_METHODS = {
     "append", "clear", "copy", "count", "endswith", "extend", "find", "get", "index", "insert", "items", "join", "keys",
@@ -32,91 +32,6 @@ ALLOWED_NODES = (
 )
 TAKES_GENERATORS = {"list", "tuple", "dict", "sorted", "sum", "min", "max", "any", "all"}
 TAKES_SETS = {"sorted", "len"}
-
-INTERFACE = {
-    "tables": """
-        people(table) goods(table) count_at_odds(table) place(table, row) heaps(table, good) totals(table)
-        more_of(table, one, other) highest_tower(table) widest_odds(table) is_over(table, one, other)
-        is_tower(table) fits(table, row) at_odds(table) tops(table) bottoms(table) free(table)
-        odds_with(table, person) quarrelsome(table) same_rows(table)
-    """,
-    "crowds": """
-        crowd(table) tower(table) next_crowds(table) all_met(table) come_together(one, other) is_deed(one, other)
-        can_come(one, other) shows_way(one, other, value) count_met(table) count_ways(one, other)
-        count_by_odds(table) least_deeds(one, other) most_deeds(one, other) way(one, other)
-    """,
-    "lays": """
-        lay(table, one, other) lay_all(table, lays) in_order(table, order) rounds(table, turns)
-        changing(table, lays) helpers(table, person) lays_for(table, order) shows_lays(table, order, value)
-        least_lays(table, order) count_laid(table) count_orders_met(table) lays_to_top(table, person)
-        lays_to_bottom(table, person) least_rounds(table) easiest_order(table)
-    """,
-    "fixed": """
-        brings_all(many, lays) shows_fixed(many, value) left_over(many, lays) count_left(many, lays)
-        count_states(many, lays) idle(many, lays) plain_lays(many) fewest_lays(many)
-    """,
-    "backward": """
-        splits(table, one, other) count_splits(table, one, other) count_befores(table) befores(table)
-        all_befores(table) sources(table) between(one, other) meetings(one, other) is_source(table)
-        farthest_before(table)
-    """,
-    "counts": """
-        count_tables(heaps) count_crowds(heaps) count_sources(heaps) count_deeds(heaps) longest_row(heaps)
-        all_tables(heaps) all_crowds(heaps) count_by_odds(heaps) crowds_by_odds(heaps) most_quarrels(heaps)
-        odds_chance(heaps) mean_odds(heaps) top_chance(heaps) tower_chance(heaps) meet_chance(heaps)
-    """,
-    "draws": """
-        come_chance(one, other) mean_deeds(table) mean_draws(table) mean_pairs_met(table) after(table, deeds)
-        deeds_chances(table) likeliest_last(table)
-    """,
-    "sums": """
-        squares(table) most_squares(table) left_to_rise(table) rise(table, one, other)
-        rise_by_goods(table, one, other) bond(table, one, other) most_bond(table, one, other)
-        least_bond(table, one, other) greatest_rise(table) least_rise(table) climb(table)
-        hang_together(table, one, other) goods_apart(table) share(table, person) middle_good(table) spans(heaps)
-    """,
-    "levels": """
-        cut(table, levels) squeezed(table) counts_at(table, levels) both_at(table, levels) tower_at(table, levels)
-        alike_at(one, other, levels) is_tower_by_levels(table) is_squeezed(table) quarrel_levels(table)
-    """,
-    "parts": """
-        without_person(table, person) without_good(table, good) with_person(table, row) beside(one, other)
-        below(one, other) people_in_order(table, order) goods_in_order(table, order) kept_odds(table, good)
-        needless_goods(table) fewest_goods(table) fewest_to_go(table) middle_rows(table) gaps(table, row)
-        quarrels_with(table, row)
-    """,
-    "fronts": """
-        fronts(table) count_fronts(table) front_of(table, person) count_strict(table) fewest_towers(table)
-        sizes(table) line_down(table, person) shows_line(table, person, value) steps_over(table, one, other)
-    """,
-    "twos": """
-        order(table) from_order(told) next_orders(table) rings(table) least_by_rings(table) most_by_odds(table)
-        count_below(table) can_come_by_counts(one, other) count_orders_by_odds(many) count_orders_by_rings(many)
-    """,
-    "games": """
-        worth(table) game_length(table) first_wins(table) both_games(one, other) shows_play(table, value)
-        deeds_left(table, most) winning_next(table) best_play(table) first_chance(table)
-    """,
-    "seats": """
-        side_odds(table) is_quiet(table) row_nexts(table) quiet_ends(table) count_row(table) least_quiet(table)
-        least_even_odd(table) swept(table, turns) even_odd(table, turns) passed_round(table, turns)
-        where_top(table, turns)
-    """,
-    "drawn": """
-        two_at_odds(goods, most) mean_drawn_odds(people, goods, most) over_all(people, goods, most)
-        tower_drawn(people, goods, most) count_towers(people, goods, most) count_tower_tables(people, goods, most)
-        count_rows_over(row, most) count_rows_under(row, most) count_rows_at_odds(row, most)
-    """,
-    "papers": """
-        to_tower(table) over_and_back(one, other) shows_to_tower(table, value) shows_over_and_back(one, other, value)
-        pairs_written(table) first_wrong(value) more_counts(table)
-    """,
-    "compares": """
-        same_heaps(one, other) unlike_people(one, other) same_odds(one, other) is_crowd_of(one, other)
-        over_all_of(one, other) names_for(one, other) greater(one, other) lesser(one, other) moved(one, other)
-        to_order(table, order) cheapest_order(table) agreeing_orders(table) count_agreeing(table)
-    """,
-}
 
 
 def parsed(path):
@@ -176,7 +91,9 @@ class Form(unittest.TestCase):
                 if isinstance(node, ast.Constant):
                     self.assertNotIsInstance(node.value, (float, complex))
                 if isinstance(node, ast.FunctionDef):
-                    self.assertEqual((node.decorator_list, node.returns), ([], None))
+                    self.assertIsNone(node.returns)
+                    self.assertIn([ast.unparse(told) for told in node.decorator_list], ([], ["property"]))
+                    self.assertTrue(not node.decorator_list or isinstance(node.parent, ast.ClassDef))
                 if isinstance(node, ast.Pow):
                     self.assertIsInstance(node.parent.right, ast.Constant)
                 if isinstance(node, ast.Starred) and isinstance(node.parent, ast.Call):
@@ -254,12 +171,6 @@ class Form(unittest.TestCase):
                         self.assertTrue(ast.get_docstring(node), node.name)
             self.assertTrue(ast.get_docstring(tree))
         self.each(check)
-
-    def test_each_name_of_the_interface_is_defined_in_its_file(self):
-        for module, told in INTERFACE.items():
-            body = parsed(FOLDER / f"{module}.py").body
-            defined = {f"{node.name}({ast.unparse(node.args)})" for node in body if isinstance(node, ast.FunctionDef)}
-            self.assertLessEqual(set(re.findall(r"\w+\(.*?\)", told)), defined, module)
 
 
 if __name__ == "__main__":
