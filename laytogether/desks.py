@@ -37,7 +37,7 @@ class Desk:
         return None
 
     def undo(self):
-        """Take back the last line that has changed the table and has not been taken back."""
+        """Take back the last line that is kept and has not been taken back."""
         if len(self._tables) == 1:
             raise NothingToUndo("no line is left")
         self._tables.pop()
